@@ -1,0 +1,33 @@
+"""The names, files and arguments of the interface."""
+
+import importlib
+import inspect
+import unittest
+
+INTERFACE = """
+    webs: made_web(thing) is_web(thing) near(web,place) days_between(web,u,v) with_way(web,u,v,d) without_way(web,u,v)
+    webs: with_place(web,row) without_place(web,place) renamed(web,order)
+    trees: made_tree(web,thing) is_tree(web,thing) least_tree(web) tree_length(web,tree) tree_longest(web,tree)
+    trees: road(web,tree,u,v) hung(web,u,v) cut(web,tree,index) across(web,lot)
+    swaps: least_trees(web) exchanges(web,tree,other)
+"""
+
+
+class Interface(unittest.TestCase):
+
+    def test_functions(self):
+        for line in INTERFACE.split("\n"):
+            for told in line.split()[1:]:
+                module = "treeandtrip." + line.split(":")[0].strip()
+                name, arguments = told.rstrip(")").split("(")
+                function = getattr(importlib.import_module(module), name)
+                self.assertTrue(inspect.isfunction(function), told)
+                self.assertEqual(function.__module__, module, told)
+                parameters = inspect.signature(function).parameters.values()
+                self.assertEqual([each.name for each in parameters], arguments.split(","), told)
+                for each in parameters:
+                    self.assertEqual((each.kind, each.default), (each.POSITIONAL_OR_KEYWORD, each.empty), told)
+
+
+if __name__ == "__main__":
+    unittest.main()

@@ -1,0 +1,1 @@
+"""Treeandtrip: how many crates are never too few."""
