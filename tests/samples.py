@@ -64,14 +64,21 @@ def reached(ways, place):
     """The rising tuple of the places that a place hangs together with by these ways."""
     found = {place}
     while True:
-        more = {q for u, v, _ in ways for p, q in ((u, v), (v, u)) if p in found} - found
-        if not more:
+        before = len(found)
+        for u, v, _ in ways:
+            if u in found or v in found:
+                found |= {u, v}
+        if len(found) == before:
             return tuple(sorted(found))
-        found |= more
 
 
 def lots_by(n, ways):
-    return tuple(sorted({reached(ways, place) for place in range(n)}))
+    """The lots of the places that hang together by these ways, rising."""
+    lots = []
+    for place in range(n):
+        if not any(place in lot for lot in lots):
+            lots.append(reached(ways, place))
+    return tuple(lots)
 
 
 @cache

@@ -10,6 +10,13 @@ INTERFACE = """
     trees: made_tree(web,thing) is_tree(web,thing) least_tree(web) tree_length(web,tree) tree_longest(web,tree)
     trees: road(web,tree,u,v) hung(web,u,v) cut(web,tree,index) across(web,lot)
     swaps: least_trees(web) exchanges(web,tree,other)
+    clusters: made_lot(web,thing) parts(web,most) clusters(web) is_cluster(web,thing) joined_at(web,lot)
+    clusters: opens_at(web,lot) children(web,lot) inner(web,lot) moats(web)
+    terms: made_terms(web,thing) is_terms(web,thing) most_asks(web,terms) longest_loan(web,terms) notice(web,terms)
+    numbers: reserve(web,terms,tree) tree_needed(web,terms,tree) needed(web,terms) summands(web,terms)
+    numbers: first_hands(web,terms,tree,root)
+    worths: way_gain(web,terms,u,v,d) free_ways(web) notice_gain(web,terms) loan_gain(web,terms)
+    worths: place_gain(web,terms,row) buys(web,terms,offers,crates)
 """
 
 

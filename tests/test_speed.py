@@ -3,10 +3,12 @@
 import time
 import unittest
 
-from treeandtrip import swaps, trees, webs
+from treeandtrip import clusters, numbers, swaps, terms, trees, webs, worths
 from tests.samples import BIG, BIG_ALIKE, Case
 
 SECONDS = 2
+LOANS = ("loans", 20, 200, 0)
+TRIPS = ("trips", 20, tuple(tuple(0 if a == b else 1 + (a * b) % 200 for b in range(40)) for a in range(40)))
 
 
 class Speed(Case):
@@ -40,6 +42,45 @@ class Speed(Case):
             self.quick(trees.cut, web, tree, 38)
             self.quick(trees.across, web, tuple(range(20)))
             self.quick(swaps.exchanges, web, tuple(way for way in web[1] if way[1] == 39), tree)
+
+    def test_clusters(self):
+        whole = tuple(range(40))
+        for web in (BIG, BIG_ALIKE):
+            self.quick(clusters.made_lot, web, whole)
+            self.quick(clusters.parts, web, 200)
+            self.quick(clusters.clusters, web)
+            self.quick(clusters.is_cluster, web, whole)
+            self.quick(clusters.joined_at, web, whole)
+            self.quick(clusters.opens_at, web, whole)
+            self.quick(clusters.children, web, whole)
+            self.quick(clusters.inner, web, whole)
+            self.quick(clusters.moats, web)
+
+    def test_numbers(self):
+        for web in (BIG, BIG_ALIKE):
+            tree = trees.least_tree(web)
+            for given in (LOANS, TRIPS):
+                self.quick(terms.made_terms, web, given)
+                self.quick(terms.is_terms, web, given)
+                self.quick(terms.most_asks, web, given)
+                self.quick(terms.longest_loan, web, given)
+                self.quick(terms.notice, web, given)
+                self.quick(numbers.reserve, web, given, tree)
+                self.quick(numbers.tree_needed, web, given, tree)
+                self.quick(numbers.needed, web, given)
+                self.quick(numbers.summands, web, given)
+                self.quick(numbers.first_hands, web, given, tree, 39)
+
+    def test_worths(self):
+        offers = tuple((at, 39, 1, at) for at in range(10))
+        for web in (BIG, BIG_ALIKE):
+            self.quick(worths.free_ways, web)
+            self.quick(worths.loan_gain, web, LOANS)
+            self.quick(worths.place_gain, webs.without_place(web, 39), LOANS, ((0, 1), (38, 200)))
+            for given in (LOANS, TRIPS):
+                self.quick(worths.way_gain, web, given, 38, 39, 1)
+                self.quick(worths.notice_gain, web, given)
+                self.quick(worths.buys, web, given, offers, 0)
 
 
 if __name__ == "__main__":

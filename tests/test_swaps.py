@@ -23,8 +23,9 @@ def exchanged(tree, other):
     swaps = []
     while sorted(tree) != sorted(other):
         coming = min([leg for leg in other if leg not in tree], key=by_days)
-        ring_ways = [coming] + [leg for leg in tree if coming[1] not in reached([w for w in tree if w != leg], coming[0])]
-        going = max([way for way in ring_ways if way not in other], key=by_days)
+        u, v, _ = coming
+        on_the_road = [leg for leg in tree if v not in reached([way for way in tree if way != leg], u)]
+        going = max([way for way in on_the_road if way not in other], key=by_days)
         tree = [leg for leg in tree if leg != going] + [coming]
         swaps.append((going, coming))
     return tuple(swaps)
