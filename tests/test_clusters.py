@@ -147,7 +147,7 @@ class OfACluster(Case):
                     self.assertGreater(opening, least[lot])
 
     def test_children(self):
-        for web in WEBS + [row(40), star(40), ring(40)]:
+        for web in WEBS + GREAT:
             for lot in clusters(web):
                 found = children(web, lot)
                 if len(lot) == 1:

@@ -1,7 +1,9 @@
 """A web of 40 places with all 780 ways is answered without delay."""
 
+import random
 import time
 import unittest
+from itertools import combinations
 
 from treeandtrip import clusters, numbers, swaps, terms, trees, webs, worths
 from tests.samples import BIG, BIG_ALIKE, Case
@@ -55,6 +57,24 @@ class Speed(Case):
             self.quick(clusters.children, web, whole)
             self.quick(clusters.inner, web, whole)
             self.quick(clusters.moats, web)
+
+    def test_each_cluster_by_itself(self):
+        """The four functions of [3.2], and `is_cluster`, of all clusters of a web in less than a second."""
+        draw = random.Random(6)
+        drawn = (40, tuple((u, v, draw.randint(1, 200)) for u, v in combinations(range(40), 2)))
+        steps = (40, tuple((0, i, 1 + i * 31 % 200) for i in range(1, 40)))
+        for web in (steps, drawn, BIG):
+            lots = clusters.clusters(web)
+            begun = time.perf_counter()
+            for lot in lots:
+                clusters.joined_at(web, lot)
+                clusters.opens_at(web, lot)
+                clusters.children(web, lot)
+                clusters.inner(web, lot)
+            self.assertLess(time.perf_counter() - begun, 1)
+            begun = time.perf_counter()
+            self.assertTrue(all(clusters.is_cluster(web, lot) for lot in lots))
+            self.assertLess(time.perf_counter() - begun, 1)
 
     def test_numbers(self):
         for web in (BIG, BIG_ALIKE):

@@ -18,7 +18,13 @@ def is_within(thing, least, most):
 
 def is_numbers(thing, many):
     """Whether a value is a tuple of just so many numbers."""
-    return isinstance(thing, tuple) and len(thing) == many and all([is_number(item) for item in thing])
+    if not isinstance(thing, tuple) or len(thing) != many:
+        return False
+    # Each call looks at each way of a web, so that a call for each number would be felt here.
+    for item in thing:
+        if not isinstance(item, int) or isinstance(item, bool):
+            return False
+    return True
 
 
 def fresh(thing):

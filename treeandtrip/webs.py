@@ -1,6 +1,6 @@
 """Webs: places that are joined by ways of whole days, and what may be changed of them."""
 
-from treeandtrip.basics import MOST_DAYS, MOST_PLACES, check_place, check_together, fresh
+from treeandtrip.basics import MOST_DAYS, MOST_PLACES, check_place, check_together
 from treeandtrip.basics import is_numbers, is_place, is_within, neighbours
 from treeandtrip.errors import BadDays, BadOrder, BadPlace, BadRow, BadWay, BadWeb
 from treeandtrip.errors import LastPlace, NoWay, Refused, TooMany
@@ -17,7 +17,7 @@ def made_web(thing):
         raise BadWeb(1)
     _check_ways(n, ways)
     check_together(n, ways)
-    return n, fresh(ways)
+    return n, tuple([(u, v, d) for u, v, d in ways])
 
 
 def _check_ways(n, ways):
@@ -25,16 +25,12 @@ def _check_ways(n, ways):
     # the pairs of places that must rise.
     ahead = (-1, -1)
     for index, way in enumerate(ways):
-        if not _is_way(n, way) or way[:2] <= ahead:
+        if not is_numbers(way, 3):
             raise BadWay(index)
-        ahead = way[:2]
-
-
-def _is_way(n, thing):
-    if not is_numbers(thing, 3):
-        return False
-    u, v, d = thing
-    return 0 <= u < v < n and 1 <= d <= MOST_DAYS
+        u, v, d = way
+        if not 0 <= u < v < n or not 1 <= d <= MOST_DAYS or (u, v) <= ahead:
+            raise BadWay(index)
+        ahead = (u, v)
 
 
 def is_web(thing):
