@@ -17,6 +17,12 @@ INTERFACE = """
     numbers: first_hands(web,terms,tree,root)
     worths: way_gain(web,terms,u,v,d) free_ways(web) notice_gain(web,terms) loan_gain(web,terms)
     worths: place_gain(web,terms,row) buys(web,terms,offers,crates)
+    games: small(web,terms) keepable(web,terms,crates)
+    moments: made_hands(web,thing) made_moment(web,terms,thing) is_moment(web,terms,thing) first_moment(web,hands)
+    moments: count_of(moment)
+    days: made_tells(web,terms,moment,thing) made_asks(web,terms,thing) opened(web,terms,moment,tells,asks)
+    days: after_day(web,terms,moment,day)
+    runs: made_run(web,terms,thing) is_run(web,terms,thing) moments(web,terms,run)
 """
 
 

@@ -5,12 +5,26 @@ import time
 import unittest
 from itertools import combinations
 
-from treeandtrip import clusters, numbers, swaps, terms, trees, webs, worths
-from tests.samples import BIG, BIG_ALIKE, Case
+from treeandtrip import clusters, days, games, moments, numbers, runs, swaps, terms, trees, webs, worths
+from tests.samples import BIG, BIG_ALIKE, ONE, Case
 
 SECONDS = 2
 LOANS = ("loans", 20, 200, 0)
 TRIPS = ("trips", 20, tuple(tuple(0 if a == b else 1 + (a * b) % 200 for b in range(40)) for a in range(40)))
+
+
+def busy_run(k, longest, told, many=600):
+    """A run of so many days on 40 places with all ways, with as many asks as there can be and 40 sends on each day."""
+    done = []
+    for day in range(many):
+        # The asks of this day are those that must be told today; loans that are home have left the list.
+        asked, first = day - longest + told, max(0, day - longest)
+        must = range(k * (asked - first), k * (asked - first + 1)) if asked >= 0 and told < longest else ()
+        tells = tuple((index, (index + day) % 40) for index in must)
+        asks = tuple(((day + at) % 40, None if told < longest else (longest, at)) for at in range(k))
+        sends = tuple((u, v, 2) for u in range(40) for v in [(u + 1 + day) % 40] if u != v)
+        done.append((tells, asks, sends))
+    return (5000,) * 40, tuple(done)
 
 
 class Speed(Case):
@@ -101,6 +115,33 @@ class Speed(Case):
                 self.quick(worths.way_gain, web, given, 38, 39, 1)
                 self.quick(worths.notice_gain, web, given)
                 self.quick(worths.buys, web, given, offers, 0)
+
+    def test_moments_and_days(self):
+        hands = (1000,) * 40
+        for web in (BIG, BIG_ALIKE):
+            for told in (0, 100, 200):
+                given = ("loans", 20, 200, told)
+                empties = tuple((left, place, 10) for left in range(200) for place in range(40))
+                loans = tuple((at // 20, None if at // 20 >= told else at % 40) for at in range(4000))
+                moment = self.quick(moments.made_moment, web, given, (hands, empties, loans))
+                self.quick(moments.is_moment, web, given, moment)
+                self.quick(moments.count_of, moment)
+                tells = tuple((at, at % 40) for at in range(20 * told, 4000))
+                self.quick(days.made_tells, web, given, moment, tells)
+                self.quick(days.opened, web, given, moment, tells, ())
+                sends = tuple((u, v, 1) for u in range(40) for v in range(40) if u != v)
+                self.quick(days.after_day, web, given, moment, (tells, (), sends))
+
+    def test_runs(self):
+        for k, longest, told in ((20, 30, 10), (2, 200, 0), (20, 5, 5), (20, 200, 0)):
+            given, run = ("loans", k, longest, told), busy_run(k, longest, told)
+            self.assertIs(self.quick(runs.is_run, BIG, given, run), True)
+            found = self.quick(runs.moments, BIG, given, run)
+            self.assertEqual([len(found), len(found[-1][2])], [601, k * longest])
+
+    def test_games(self):
+        for web, given in ((ONE, ("loans", 1, 4, 0)), ((2, ((0, 1, 2),)), ("loans", 1, 2, 2))):
+            self.assertEqual([self.quick(games.keepable, web, given, many) for many in (3, 4, 5)], [False, True, True])
 
 
 if __name__ == "__main__":

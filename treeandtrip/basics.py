@@ -4,6 +4,7 @@ from treeandtrip.errors import BadLot, BadPlace, Parted
 
 MOST_PLACES = 40
 MOST_DAYS = 200
+MOST_CRATES = 200000
 
 
 def is_number(thing):
@@ -31,12 +32,17 @@ def fresh(thing):
     """The value, with each tuple in it made anew."""
     if not isinstance(thing, tuple):
         return thing
-    return tuple([fresh(item) for item in thing])
+    return tuple([fresh(item) if isinstance(item, tuple) else item for item in thing])
 
 
 def is_place(n, thing):
     """Whether a value is one of the places 0 to n - 1."""
     return is_within(thing, 0, n - 1)
+
+
+def is_pair(thing):
+    """Whether a value is a tuple of two items."""
+    return isinstance(thing, tuple) and len(thing) == 2
 
 
 def check_place(n, thing, what):

@@ -10,6 +10,11 @@ MOST_ASKS = 20
 def made_terms(web, thing):
     """The terms, if the value is terms for this web."""
     n, _ = made_web(web)
+    return checked_terms(n, thing)
+
+
+def checked_terms(n, thing):
+    """The terms, if the value is terms for a web with n places."""
     if _begins(thing, "loans", 4):
         _check_loans(thing)
     elif _begins(thing, "trips", 3):

@@ -1,6 +1,6 @@
 """Worths: what a change of the web or of the terms saves or costs in crates."""
 
-from treeandtrip.basics import MOST_DAYS, is_numbers, is_place, is_within, labels_of
+from treeandtrip.basics import MOST_CRATES, MOST_DAYS, is_numbers, is_place, is_within, labels_of
 from treeandtrip.errors import BadMany, BadOffers, BadTerms
 from treeandtrip.numbers import crates_by, needed, summands, summands_by
 from treeandtrip.terms import are_loans, made_terms
@@ -9,7 +9,6 @@ from treeandtrip.webs import made_web, with_place, with_way
 
 MOST_OFFERS = 10
 MOST_PRICE = 1000
-MOST_CRATES = 200000
 
 
 def way_gain(web, terms, u, v, d):
