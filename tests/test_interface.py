@@ -23,6 +23,12 @@ INTERFACE = """
     days: made_tells(web,terms,moment,thing) made_asks(web,terms,thing) opened(web,terms,moment,tells,asks)
     days: after_day(web,terms,moment,day)
     runs: made_run(web,terms,thing) is_run(web,terms,thing) moments(web,terms,run)
+    kernel: due_in(web,terms,moment,lot,h) lost_right(web,terms,moment,lot,h) moats_right(web,thing)
+    kernel: least_paper(web,tree,thing) standing_right(web,terms,hands,tree,root)
+    kernel: lack_right(web,terms,run,tells,asks)
+    lost: lost_paper(web,terms,moment) doomed(web,terms,run)
+    foe: foe_day(web,terms,moment)
+    houses: made_house(thing) is_house(thing)
 """
 
 

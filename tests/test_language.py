@@ -145,6 +145,21 @@ class Language(unittest.TestCase):
                     for keyword in node.keywords:
                         self.assertIn(keyword.arg, ("key", "reverse", "default", "start", "strict"), name)
 
+    def test_attributes(self):
+        """L18, L26: those that are read are assigned, through `self`, and none is called like a method of a value."""
+        assigned, read = set(), set()
+        for name, tree in TREES.items():
+            called = [node.func for node in ast.walk(tree) if isinstance(node, ast.Call)]
+            for node in ast.walk(tree):
+                if isinstance(node, ast.Attribute) and isinstance(node.ctx, ast.Store):
+                    self.assertEqual(node.value.id, "self", name)
+                    assigned.add(node.attr)
+                elif isinstance(node, ast.Attribute) and node not in called:
+                    read.add(node.attr)
+        self.assertEqual(read | {"what"}, assigned)
+        for thing in ("", 1, [], {}, (), b"", set()):
+            self.assertFalse(assigned & set(dir(thing)))
+
     def test_sets_stand_in_sorted_alone(self):
         """L24."""
         for name, tree in TREES.items():

@@ -5,7 +5,8 @@ import time
 import unittest
 from itertools import combinations
 
-from treeandtrip import clusters, days, games, moments, numbers, runs, swaps, terms, trees, webs, worths
+from treeandtrip import clusters, days, foe, games, houses, kernel, lost, moments, numbers, runs, swaps, terms, trees
+from treeandtrip import webs, worths
 from tests.samples import BIG, BIG_ALIKE, ONE, Case
 
 SECONDS = 2
@@ -133,11 +134,43 @@ class Speed(Case):
                 self.quick(days.after_day, web, given, moment, (tells, (), sends))
 
     def test_runs(self):
-        for k, longest, told in ((20, 30, 10), (2, 200, 0), (20, 5, 5), (20, 200, 0)):
+        for k, longest, told in ((20, 30, 10), (2, 200, 0), (20, 5, 5)):
             given, run = ("loans", k, longest, told), busy_run(k, longest, told)
             self.assertIs(self.quick(runs.is_run, BIG, given, run), True)
             found = self.quick(runs.moments, BIG, given, run)
             self.assertEqual([len(found), len(found[-1][2])], [601, k * longest])
+
+    def test_papers_and_the_foe(self):
+        for web in (BIG, BIG_ALIKE):
+            tree = trees.least_tree(web)
+            for given in (LOANS, TRIPS, ("loans", 20, 200, 200), ("loans", 1, 1, 1)):
+                least = numbers.first_hands(web, given, tree, 0)
+                for moment in ((least, (), ()), (least[:39] + (least[39] - 1,), (), ()), ((0,) * 40, (), ())):
+                    paper = self.quick(lost.lost_paper, web, given, moment)
+                    tells, asks = self.quick(foe.foe_day, web, given, moment)
+                    if paper is not None:
+                        self.assertIs(self.quick(kernel.lost_right, web, given, moment, paper[1], paper[0]), True)
+                    self.quick(kernel.due_in, web, given, moment, tuple(range(40)), 400)
+                    self.quick(kernel.lack_right, web, given, (moment[0], ()), tells, asks)
+                self.assertIs(self.quick(kernel.standing_right, web, given, least, tree, 0), True)
+            self.assertIs(self.quick(kernel.moats_right, web, clusters.moats(web)), True)
+            self.assertIs(self.quick(kernel.least_paper, web, tree, clusters.moats(web)), True)
+
+    def test_a_full_moment(self):
+        empties = tuple((left, place, 10) for left in range(200) for place in range(40))
+        for web in (BIG, BIG_ALIKE):
+            moment = ((1000,) * 40, empties, tuple((at // 20, None) for at in range(4000)))
+            self.quick(lost.lost_paper, web, LOANS, moment)
+            self.quick(foe.foe_day, web, LOANS, moment)
+
+    def test_doomed(self):
+        self.quick(lost.doomed, BIG, ("loans", 20, 30, 10), busy_run(20, 30, 10, 100))
+        self.assertIs(self.quick(lost.doomed, BIG, ("loans", 1, 1, 1), ((5000,) * 40, (((), (), ()),) * 600)), None)
+
+    def test_houses(self):
+        stay = ("set", 0, ("+",) + (("-", ("*", ("day",), 3), ("min", ("hand", 1), 2)),) * 2)
+        self.quick(houses.made_house, (("times", 0, 40, (stay,) * 199),))
+        self.assertIs(self.quick(houses.is_house, (stay,) * 100000), False)
 
     def test_games(self):
         for web, given in ((ONE, ("loans", 1, 4, 0)), ((2, ((0, 1, 2),)), ("loans", 1, 2, 2))):

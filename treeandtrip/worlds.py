@@ -8,8 +8,6 @@ class World:
     """A good web and good terms, taken apart once, so that many days can be done without looking at them again."""
 
     def __init__(self, web, terms):
-        self.web = web
-        self.terms = terms
         self.n, self.ways = web
         self.k, self.longest, self.told = three_numbers(terms)
         self.table = None if are_loans(terms) else terms[2]
