@@ -5,63 +5,9 @@ import unittest
 
 from treeandtrip.errors import BadHouse, TooDeep, TooMany
 from treeandtrip.houses import is_house, made_house
+from tests.house_samples import NO_PARTS, ONE_PART, STAY, TWO_PARTS, drawn_house, minus, put, set_to, spots
+from tests.house_samples import within_ifs
 from tests.samples import NO_NUMBERS, ODD, Case, deep
-
-TWO_PARTS = ("bound", "+", "-", "*", "/", "min", "max", "<", "=")
-ONE_PART = ("hand", "asked", "told")
-NO_PARTS = ("day", "away")
-STAY = ("set", 0, 0)
-
-
-def drawn_expression(draw, most):
-    """An expression that stands at most so many within one another."""
-    kind = draw.randrange(5) if most > 1 else draw.randrange(3)
-    if kind == 0:
-        return draw.choice([0, 1, 7, 1000000])
-    if kind == 1:
-        return (draw.choice(NO_PARTS),)
-    if kind == 2:
-        return ("cell", draw.choice([0, 3, 15]))
-    if kind == 3:
-        return (draw.choice(ONE_PART), drawn_expression(draw, most - 1))
-    return (draw.choice(TWO_PARTS), drawn_expression(draw, most - 1), drawn_expression(draw, most - 1))
-
-
-def drawn_body(draw, bodies, times):
-    """A body, within which so many bodies and so many `times` may still stand."""
-    return tuple(drawn_statement(draw, bodies, times) for _ in range(draw.choice([0, 1, 1, 2, 3])))
-
-
-def drawn_statement(draw, bodies, times):
-    kind = draw.randrange(2 if bodies == 0 else 4 if times else 3)
-    if kind == 0:
-        return ("send",) + tuple(drawn_expression(draw, draw.choice([1, 2, 4])) for _ in range(3))
-    if kind == 1:
-        return ("set", draw.randrange(16), drawn_expression(draw, draw.choice([1, 8])))
-    if kind == 2:
-        first, second = drawn_body(draw, bodies - 1, times), drawn_body(draw, bodies - 1, times)
-        return ("if", drawn_expression(draw, 3), first, second)
-    return ("times", draw.randrange(16), draw.randint(1, 40), drawn_body(draw, bodies - 1, times - 1))
-
-
-def drawn_house(seed):
-    draw = random.Random(seed)
-    return tuple(drawn_statement(draw, draw.choice([0, 1, 5]), 2) for _ in range(draw.randint(0, 5)))
-
-
-def spots(thing, path=()):
-    """The paths to all parts of nested tuples."""
-    yield path
-    if isinstance(thing, tuple):
-        for index, item in enumerate(thing):
-            yield from spots(item, path + (index,))
-
-
-def put(thing, path, item):
-    """The nested tuples with another part at the path."""
-    if path == ():
-        return item
-    return thing[:path[0]] + (put(thing[path[0]], path[1:], item),) + thing[path[0] + 1:]
 
 
 def faults_of(body, bodies=1, times=0):
@@ -124,27 +70,6 @@ def refusal_of(house):
         if fault:
             return fault, number
     return None
-
-
-def nested(wrap, times, inside):
-    """The thing with so many wraps around it."""
-    for _ in range(times):
-        inside = wrap(inside)
-    return inside
-
-
-def set_to(expression):
-    return ("set", 3, expression)
-
-
-def minus(times, inside=5):
-    """An expression in which the inside stands behind so many others."""
-    return nested(lambda part: ("-", 1, part), times, inside)
-
-
-def within_ifs(times, body=(), second=False):
-    """A house in which the body stands in so many others."""
-    return nested(lambda inner: (("if", 1, (), inner) if second else ("if", 1, inner, ()),), times, body)
 
 
 ERRORS = {"BadHouse": BadHouse, "TooDeep": TooDeep, "TooMany": TooMany}

@@ -29,6 +29,14 @@ INTERFACE = """
     lost: lost_paper(web,terms,moment) doomed(web,terms,run)
     foe: foe_day(web,terms,moment)
     houses: made_house(thing) is_house(thing)
+    hunt: hunted(web,terms,house,hands)
+    plain: resumed(web,terms,tree,root,moment,book)
+"""
+
+CLASSES = """
+    runner: Runner(web,terms,house,hands) take(tells,asks) moment() cells() run()
+    plain: Plain(web,terms,tree,root) take(tells,asks) moment() run() owed() book()
+    live: Live(web,terms,hands) take(day) back() again() moment() run() paper()
 """
 
 
@@ -38,14 +46,29 @@ class Interface(unittest.TestCase):
         for line in INTERFACE.split("\n"):
             for told in line.split()[1:]:
                 module = "treeandtrip." + line.split(":")[0].strip()
-                name, arguments = told.rstrip(")").split("(")
-                function = getattr(importlib.import_module(module), name)
-                self.assertTrue(inspect.isfunction(function), told)
-                self.assertEqual(function.__module__, module, told)
-                parameters = inspect.signature(function).parameters.values()
-                self.assertEqual([each.name for each in parameters], arguments.split(","), told)
-                for each in parameters:
-                    self.assertEqual((each.kind, each.default), (each.POSITIONAL_OR_KEYWORD, each.empty), told)
+                function = getattr(importlib.import_module(module), told.split("(")[0])
+                self.takes(function, module, told)
+
+    def test_classes(self):
+        """Each class takes these arguments, and each method stands in the class itself."""
+        for line in CLASSES.strip().split("\n"):
+            module = "treeandtrip." + line.split(":")[0].strip()
+            told, *methods = line.split()[1:]
+            made = getattr(importlib.import_module(module), told.split("(")[0])
+            self.assertTrue(inspect.isclass(made), told)
+            self.assertEqual(made.__module__, module, told)
+            for method in [told] + methods:
+                name = "__init__" if method == told else method.split("(")[0]
+                self.takes(vars(made)[name], module, method.replace("(", "(self,").replace(",)", ")"))
+
+    def takes(self, function, module, told):
+        """The function is of this module, and takes these arguments by position and by name."""
+        self.assertTrue(inspect.isfunction(function), told)
+        self.assertEqual(function.__module__, module, told)
+        parameters = inspect.signature(function).parameters.values()
+        self.assertEqual([each.name for each in parameters], told.rstrip(")").split("(")[1].split(","), told)
+        for each in parameters:
+            self.assertEqual((each.kind, each.default), (each.POSITIONAL_OR_KEYWORD, each.empty), told)
 
 
 if __name__ == "__main__":

@@ -43,6 +43,14 @@ def imports_of(tree):
     return [node for node in tree.body if isinstance(node, ast.ImportFrom)]
 
 
+def methods_of(tree):
+    return [each for node in tree.body if isinstance(node, ast.ClassDef) for each in functions(node)
+            if each in node.body and each.name != "__init__"]
+
+
+OWN_METHODS = {node.name for tree in TREES.values() for node in methods_of(tree)}
+
+
 def names_at_top(tree):
     found = [node.name for node in tree.body if isinstance(node, (ast.FunctionDef, ast.ClassDef))]
     found += [node.targets[0].id for node in tree.body if isinstance(node, ast.Assign)]
@@ -135,11 +143,20 @@ class Language(unittest.TestCase):
                 self.assertFalse(isinstance(node, ast.Name) and node.id == "_" and isinstance(node.ctx, ast.Load), name)
 
     def test_methods_and_keywords(self):
-        """L22, L25, L26."""
+        """L18, L22, L25, L26."""
+        for thing in ("", 1, [], {}, (), b"", set()):
+            self.assertFalse(OWN_METHODS & set(dir(thing)))
+        for name, tree in TREES.items():
+            for node in tree.body:
+                if isinstance(node, ast.ClassDef):
+                    own = {each.name for each in methods_of(tree) if each in node.body}
+                    stored = {each.attr for each in ast.walk(node) if isinstance(each, ast.Attribute)
+                              and isinstance(each.ctx, ast.Store)}
+                    self.assertFalse(own & stored, (name, node.name))
         for name, tree in TREES.items():
             for node in ast.walk(tree):
                 if isinstance(node, ast.Call) and isinstance(node.func, ast.Attribute):
-                    self.assertIn(node.func.attr, METHODS, name)
+                    self.assertIn(node.func.attr, METHODS | OWN_METHODS, name)
                     self.assertEqual(node.keywords, [], name)
                 if isinstance(node, ast.Call) and isinstance(node.func, ast.Name) and node.func.id in BUILTINS:
                     for keyword in node.keywords:
@@ -182,6 +199,8 @@ class Language(unittest.TestCase):
             for node in tree.body:
                 if isinstance(node, (ast.FunctionDef, ast.ClassDef)) and not node.name.startswith("_"):
                     self.assertIsNotNone(ast.get_docstring(node), (name, node.name))
+            for node in methods_of(tree):
+                self.assertIsNotNone(ast.get_docstring(node), (name, node.name))
 
 
 if __name__ == "__main__":

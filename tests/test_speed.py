@@ -5,11 +5,13 @@ import time
 import unittest
 from itertools import combinations
 
-from treeandtrip import clusters, days, foe, games, houses, kernel, lost, moments, numbers, runs, swaps, terms, trees
-from treeandtrip import webs, worths
+from treeandtrip import clusters, days, foe, games, houses, hunt, kernel, live, lost, moments, numbers, plain, runner
+from treeandtrip import runs, swaps, terms, trees, webs, worths
 from tests.samples import BIG, BIG_ALIKE, ONE, Case
 
 SECONDS = 2
+# For what does some hundred days, one behind another.
+SECONDS_FOR_MANY_DAYS = 12
 LOANS = ("loans", 20, 200, 0)
 TRIPS = ("trips", 20, tuple(tuple(0 if a == b else 1 + (a * b) % 200 for b in range(40)) for a in range(40)))
 
@@ -31,9 +33,15 @@ def busy_run(k, longest, told, many=600):
 class Speed(Case):
 
     def quick(self, function, *arguments):
+        return self.within(SECONDS, function, *arguments)
+
+    def steady(self, function, *arguments):
+        return self.within(SECONDS_FOR_MANY_DAYS, function, *arguments)
+
+    def within(self, seconds, function, *arguments):
         begun = time.perf_counter()
         found = function(*arguments)
-        self.assertLess(time.perf_counter() - begun, SECONDS, function.__name__)
+        self.assertLess(time.perf_counter() - begun, seconds, function.__name__)
         return found
 
     def test_webs(self):
@@ -136,8 +144,8 @@ class Speed(Case):
     def test_runs(self):
         for k, longest, told in ((20, 30, 10), (2, 200, 0), (20, 5, 5)):
             given, run = ("loans", k, longest, told), busy_run(k, longest, told)
-            self.assertIs(self.quick(runs.is_run, BIG, given, run), True)
-            found = self.quick(runs.moments, BIG, given, run)
+            self.assertIs(self.steady(runs.is_run, BIG, given, run), True)
+            found = self.steady(runs.moments, BIG, given, run)
             self.assertEqual([len(found), len(found[-1][2])], [601, k * longest])
 
     def test_papers_and_the_foe(self):
@@ -164,13 +172,70 @@ class Speed(Case):
             self.quick(foe.foe_day, web, LOANS, moment)
 
     def test_doomed(self):
-        self.quick(lost.doomed, BIG, ("loans", 20, 30, 10), busy_run(20, 30, 10, 100))
-        self.assertIs(self.quick(lost.doomed, BIG, ("loans", 1, 1, 1), ((5000,) * 40, (((), (), ()),) * 600)), None)
+        self.steady(lost.doomed, BIG, ("loans", 20, 30, 10), busy_run(20, 30, 10, 100))
+        self.assertIs(self.steady(lost.doomed, BIG, ("loans", 1, 1, 1), ((5000,) * 40, (((), (), ()),) * 600)), None)
 
     def test_houses(self):
         stay = ("set", 0, ("+",) + (("-", ("*", ("day",), 3), ("min", ("hand", 1), 2)),) * 2)
         self.quick(houses.made_house, (("times", 0, 40, (stay,) * 199),))
         self.assertIs(self.quick(houses.is_house, (stay,) * 100000), False)
+
+    def test_a_plain_house_of_forty_places(self):
+        for web in (BIG, BIG_ALIKE):
+            tree = trees.least_tree(web)
+            for given in (("loans", 20, 30, 10), ("loans", 2, 200, 0), TRIPS):
+                self.steady(self.plain_days, web, given, tree)
+
+    def plain_days(self, web, given, tree):
+        """600 days with as many asks as can be, half of them at one place."""
+        draw = random.Random(14)
+        house = plain.Plain(web, given, tree, 7)
+        k, longest, told = terms.most_asks(web, given), terms.longest_loan(web, given), terms.notice(web, given)
+        for day in range(600):
+            must = [index for index, loan in enumerate(house.moment()[2]) if loan == (told, None)]
+            places = [draw.choice([day % 39, draw.randrange(39)]) for _ in range(k)]
+            backs = [(given[2][place][39], 39) for place in places] if given is TRIPS else [None] * k
+            house.take(tuple((index, draw.randrange(40)) for index in must), tuple(zip(places, backs)))
+        self.assertEqual([len(house.run()[1]), moments.count_of(house.moment())],
+                         [600, numbers.tree_needed(web, given, tree)])
+        other = plain.resumed(web, given, tree, 7, house.moment(), house.book())
+        self.assertEqual((other.owed(), other.moment()), (house.owed(), house.moment()))
+
+    def test_runners(self):
+        deep = ("-", ("min", ("hand", ("cell", 1)), 3), ("bound", ("cell", 2), ("day",)))
+        flat = tuple([("send", at % 40, (at + 1) % 40, deep) for at in range(100)] + [("set", 1, deep)] * 100)
+        loops = (("times", 0, 40, (("times", 1, 40, (("send", ("cell", 0), ("cell", 1), ("asked", ("cell", 1))),)),)),)
+        for house, many in ((flat, 600), (loops, 300)):
+            self.steady(self.runner_days, house, many)
+
+    def runner_days(self, house, many):
+        busy = runner.Runner(BIG, ("loans", 5, 20, 20), house, (5000,) * 40)
+        for day in range(many):
+            busy.take((), tuple(((day + at) % 40, (20, at)) for at in range(5)))
+        self.assertEqual(len(busy.run()[1]), many)
+
+    def test_hunts(self):
+        stay = ("set", 0, ("hand", ("cell", 0)))
+        for web in (BIG, BIG_ALIKE):
+            enough = tuple(2000 for _ in range(40))
+            self.assertIs(self.steady(hunt.hunted, web, ("loans", 5, 200, 100), (stay,) * 200, enough), None)
+            least = numbers.first_hands(web, LOANS, trees.least_tree(web), 0)
+            self.assertIsNotNone(self.steady(hunt.hunted, web, LOANS, (stay,) * 200, (least[0] - 1,) + least[1:]))
+
+    def test_live_runs(self):
+        hands, done = busy_run(5, 20, 5)
+        self.steady(self.live_days, hands, done)
+
+    def live_days(self, hands, done):
+        long = live.Live(BIG, ("loans", 5, 20, 5), hands)
+        for day in done:
+            long.take(day)
+        for _ in done:
+            long.back()
+        for _ in done:
+            long.again()
+        self.assertEqual(long.run(), (hands, done))
+        self.assertIs(long.paper() is None, True)
 
     def test_games(self):
         for web, given in ((ONE, ("loans", 1, 4, 0)), ((2, ((0, 1, 2),)), ("loans", 1, 2, 2))):

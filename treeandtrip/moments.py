@@ -42,7 +42,16 @@ def checked_moment(world, thing):
     crates = _crates_in(thing)
     if crates > MOST_CRATES:
         raise TooMany(crates)
-    return fresh(thing)
+    return fresh_moment(thing)
+
+
+def fresh_moment(moment):
+    """The good moment, with each tuple in it made anew."""
+    hands, empties, loans = moment
+    # A moment can have thousands of items, and runs ask for it each day, so that `fresh` would be felt here.
+    return (
+        tuple(list(hands)), tuple([(days, place, many) for days, place, many in empties]),
+        tuple([(days, home) for days, home in loans]))
 
 
 def _are_hands(n, thing):
