@@ -31,12 +31,16 @@ INTERFACE = """
     houses: made_house(thing) is_house(thing)
     hunt: hunted(web,terms,house,hands)
     plain: resumed(web,terms,tree,root,moment,book)
+    webtexts: read_web(text) print_web(web,names) read_terms(web,text) print_terms(web,terms)
+    housetexts: read_house(web,names,text) print_house(web,names,house)
+    runtexts: read_run(web,names,terms,text) print_run(web,names,terms,run)
 """
 
 CLASSES = """
     runner: Runner(web,terms,house,hands) take(tells,asks) moment() cells() run()
     plain: Plain(web,terms,tree,root) take(tells,asks) moment() run() owed() book()
     live: Live(web,terms,hands) take(day) back() again() moment() run() paper()
+    desk: Desk() row(text)
 """
 
 

@@ -12,7 +12,7 @@ TREES = {name: ast.parse(text) for name, text in FILES.items()}
 
 BUILTINS = set("""
     len range enumerate zip min max sum abs sorted reversed int str bool list tuple dict set isinstance ord repr any all
-    divmod ValueError KeyError IndexError LookupError ZeroDivisionError
+    divmod type ValueError KeyError IndexError LookupError ZeroDivisionError
 """.split())
 METHODS = set("""
     append clear copy count endswith extend find get index insert isalnum isalpha isdigit islower isspace isupper items
@@ -173,9 +173,19 @@ class Language(unittest.TestCase):
                     assigned.add(node.attr)
                 elif isinstance(node, ast.Attribute) and node not in called:
                     read.add(node.attr)
-        self.assertEqual(read | {"what"}, assigned)
+        self.assertEqual(read - {"__name__"} | {"what"}, assigned)
         for thing in ("", 1, [], {}, (), b"", set()):
             self.assertFalse(assigned & set(dir(thing)))
+
+    def test_names_of_classes(self):
+        """L8, L17: `type` and `__name__` stand in `type(error).__name__` alone."""
+        for name, tree in TREES.items():
+            told = [node.value.func for node in ast.walk(tree) if isinstance(node, ast.Attribute)
+                    and node.attr == "__name__" and isinstance(node.value, ast.Call)]
+            for node in ast.walk(tree):
+                self.assertFalse(isinstance(node, ast.Name) and node.id == "type" and node not in told, name)
+                if isinstance(node, ast.Attribute) and node.attr.startswith("__") and node.attr != "__init__":
+                    self.assertEqual((node.attr, node.value.func.id), ("__name__", "type"), name)
 
     def test_sets_stand_in_sorted_alone(self):
         """L24."""
@@ -200,7 +210,7 @@ class Language(unittest.TestCase):
                 if isinstance(node, (ast.FunctionDef, ast.ClassDef)) and not node.name.startswith("_"):
                     self.assertIsNotNone(ast.get_docstring(node), (name, node.name))
             for node in methods_of(tree):
-                self.assertIsNotNone(ast.get_docstring(node), (name, node.name))
+                self.assertTrue(node.name.startswith("_") or ast.get_docstring(node), (name, node.name))
 
 
 if __name__ == "__main__":

@@ -5,9 +5,11 @@ import time
 import unittest
 from itertools import combinations
 
-from treeandtrip import clusters, days, foe, games, houses, hunt, kernel, live, lost, moments, numbers, plain, runner
-from treeandtrip import runs, swaps, terms, trees, webs, worths
+from treeandtrip import clusters, days, desk, foe, games, houses, housetexts, hunt, kernel, live, lost, moments, numbers
+from treeandtrip import plain, runner, runs, runtexts, swaps, terms, trees, webs, webtexts, worths
+from treeandtrip.errors import BadText, Long, TooDeep
 from tests.samples import BIG, BIG_ALIKE, ONE, Case
+from tests.text_samples import NAMES
 
 SECONDS = 2
 # For what does some hundred days, one behind another.
@@ -236,6 +238,40 @@ class Speed(Case):
             long.again()
         self.assertEqual(long.run(), (hands, done))
         self.assertIs(long.paper() is None, True)
+
+    def test_texts(self):
+        for web in (BIG, BIG_ALIKE):
+            text = self.quick(webtexts.print_web, web, NAMES)
+            self.assertEqual(self.quick(webtexts.read_web, text), (NAMES, web))
+            self.assertEqual(self.quick(webtexts.read_terms, web, webtexts.print_terms(web, TRIPS)), TRIPS)
+        for what, text in ((0, "1" * 60000), (60000, "a" * 60001), (0, "x " * 29999), (7, "places " + "1" * 50000)):
+            self.quick(self.refuses, BadText, what, webtexts.read_web, text)
+
+    def test_texts_of_houses_and_runs(self):
+        sums = "set c0: " + "1+" * 29000 + "1"
+        self.quick(self.refuses, TooDeep, 0, housetexts.read_house, BIG, NAMES, sums)
+        part = ("cell", 3)
+        for _ in range(7):
+            part = ("+", part, part)
+        self.quick(self.refuses, Long, 0, housetexts.print_house, BIG, NAMES, (("set", 0, part),) * 200)
+        flat = (("send", ("cell", 1), 3, ("-", ("hand", 4), ("bound", 5, 6))),) * 200
+        self.assertEqual(housetexts.read_house(BIG, NAMES, self.quick(housetexts.print_house, BIG, NAMES, flat)), flat)
+        given, run = ("loans", 5, 20, 5), busy_run(5, 20, 5)
+        self.steady(self.refuses, Long, 0, runtexts.print_run, BIG, NAMES, given, run)
+        text = "hands" + " 5000" * 40 + "; day ask hill send hill to dale 1" * 600
+        found = self.steady(runtexts.read_run, BIG, NAMES, ("loans", 1, 200, 0), text.replace(" ask hill", ""))
+        self.assertEqual(len(found[1]), 600)
+
+    def test_a_desk(self):
+        row = desk.Desk().row
+        self.assertEqual(self.quick(row, "web " + webtexts.print_web(BIG, NAMES)), "40 places, 780 ways")
+        self.assertEqual(self.quick(row, "terms loans 20 a day, 200 days, 0 ahead"), "ok")
+        for text in (
+                "number", "tree", "moats", "free", "gain hill dale 1", "notice", "loan", "plain hill", "foe", "lost"):
+            self.assertFalse(self.quick(row, text).startswith("refused"), text)
+        for _ in range(200):
+            self.assertFalse(row("next ask " + ", ".join(NAMES[:5])).startswith("refused"))
+        self.assertGreater(len(self.quick(row, "log")), 20000)
 
     def test_games(self):
         for web, given in ((ONE, ("loans", 1, 4, 0)), ((2, ((0, 1, 2),)), ("loans", 1, 2, 2))):
