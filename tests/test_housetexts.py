@@ -31,7 +31,7 @@ def house_questions(names):
             elif word == "{":
                 if len(braces) == 5:
                     yield TooDeep, place
-                braces.append(words[at - 3][0])
+                braces.append(words[max(0, at - 3)][0])
             elif word == "}":
                 braces.pop()
             elif word in ONE_PART or word in ("(", "bound"):
